@@ -1,0 +1,1 @@
+"""Bowfloor: floors of crossings, two ways in and two ways out, and the bows around their rim."""
