@@ -36,11 +36,30 @@ def heights_by_words(floor):
     return [[height_by_words(floor, i, j) for j in range(n + 1)] for i in range(n + 1)]
 
 
+def heights_by_rules(table):
+    """Whether a square table of whole numbers is heights, by what point 6 says of rim and neighbours."""
+    n = len(table) - 1
+    rim = all(table[k][0] == 0 and table[0][k] == 0 and table[k][n] == k and table[n][k] == k for k in range(n + 1))
+    level = all(row[j + 1] - row[j] in (0, 1) for row in table for j in range(n))
+    upright = all(table[i + 1][j] - table[i][j] in (0, 1) for i in range(n) for j in range(n + 1))
+    return rim and level and upright
+
+
 def floors_by_words(n):
     """All floors of size n in rising order, found by trying all tables."""
     lines = [list(line) for line in itertools.product((-1, 0, 1), repeat=n) if line_by_words(line)]
     tables = itertools.product(lines, repeat=n)
     return sorted([list(row) for row in rows] for rows in tables if floor_by_words(rows))
+
+
+def pattern_by_words(partners):
+    """Whether a list of whole numbers is a pattern of a size from 1 on, read word by word."""
+    ends = range(len(partners))
+    if not partners or not all(partner in ends for partner in partners):
+        return False
+    if any(partners[end] == end or partners[partners[end]] != end for end in ends):
+        return False
+    return not any(a < b < partners[a] < partners[b] for a in ends for b in ends)
 
 
 def unit_floor(columns):
@@ -52,6 +71,21 @@ def count_minus_ones(rows):
     return sum(row.count(-1) for row in rows)
 
 
+def drawn_floor(text):
+    """The floor drawn by + for 1, 0 for 0, - for -1, with / between rows."""
+    return [["-0+".index(sign) - 1 for sign in line] for line in text.split("/")]
+
+
+def stepped_table(floor, i, j, by):
+    """The table whose height in row i, column j is greater by by, all other heights being the floor's."""
+    rows = [list(row) for row in floor]
+    rows[i - 1][j - 1] += by
+    rows[i - 1][j] -= by
+    rows[i][j - 1] -= by
+    rows[i][j] += by
+    return rows
+
+
 def broken_floor(n, seed):
     """A floor of size n with many -1, the best on a walk of steps that each add 1 -1 / -1 1 somewhere."""
     rows = unit_floor([(k * 5 + seed) % n for k in range(n)] if n % 5 else [(k + seed) % n for k in range(n)])
@@ -59,12 +93,8 @@ def broken_floor(n, seed):
     state = seed + 1
     for step in range(40 * (n - 1) * (n - 1)):
         state = (state * 1103515245 + 12345) % (1 << 31)
-        i, j, sign = (state >> 8) % (n - 1), (state >> 16) % (n - 1), (state >> 24) % 2 * 2 - 1
-        tried = copy.deepcopy(rows)
-        tried[i][j] += sign
-        tried[i][j + 1] -= sign
-        tried[i + 1][j] -= sign
-        tried[i + 1][j + 1] += sign
+        i, j, sign = (state >> 8) % (n - 1) + 1, (state >> 16) % (n - 1) + 1, (state >> 24) % 2 * 2 - 1
+        tried = stepped_table(rows, i, j, sign)
         if floor_by_words(tried):
             rows = tried
             best = max(best, rows, key=count_minus_ones)
@@ -83,6 +113,20 @@ GOOD_FLOORS = [floor for n in SIZES for floor in BROKEN[n]] + [diamond_floor(n) 
 GOOD_FLOORS += [unit_floor(list(range(n))) for n in SIZES]
 GOOD_FLOORS += [floor for n in (1, 2, 3, 4) for floor in floors_by_words(n)]
 
+# Floors with many dark hoops, some of them around others, and with light ones.
+HOOPED = [drawn_floor(text) for text in (
+    "00+0/+000/000+/0+00", "0+00/000+/+000/00+0", "00+000/+00000/0000+0/000+00/0+0-0+/000+00",
+    "0000+00/0+00000/000+-+0/+000000/000000+/00+0000/0000+00",
+    "0000+000/00+00000/000000+0/+0000000/00000+-+/000+0000/0+0-00+0/000+0000",
+    "00+00000/+0-00+00/0000+000/00+00-+0/0+-00+00/000+0000/00+00-0+/00000+00",
+    "0000+0000/000+-+000/0+0-+-0+0/000+-0+00/00000+000/+-+0000-+/0000+0000/0+00-00+0/0000+0000",
+    "0000+00000/00+0000000/000000+000/000+-+-00+/0+-0000+00/00+0000-+0/0000+-+000/+0-00+0000/00+00-0+00/00000+0000",
+    "000000+00000/000+00000000/00000000+000/0+0000000000/0000000+-0+0/+-+000000000/00000000000+/0+0-+0000000/"
+    "000000000+00/00000+000000/000+0-00+000/00000+000000",
+    "00+000000000/00000+000000/0+-0+-00+000/00+000000000/+0-00+00-+00/000+0-0+0000/00+0-0+-+000/0000000+0-0+/"
+    "00000+0-0+00/0000+0-+-0+0/000000+-+000/0000000+0000")]
+GOOD_FLOORS += HOOPED
+
 # One that has the same list at two places, as a caller may well build it.
 SHARED_ROW = [0, 1, 0]
 SHARED_FLOOR = [SHARED_ROW, [1, -1, 1], SHARED_ROW]
@@ -94,6 +138,16 @@ DEEP_THINGS = [nested(list), nested(tuple), [nested(list)], [[nested(list)]], [[
                [[0, 0], [0, nested(tuple)]]]
 WRONG_NUMBERS = [True, False, "", "0", "1", None, (), (0,), (1,), [], [0], [1], 2, -2, 3, 13, 14, 10 ** 29, -10 ** 29,
                  nested(list), nested(tuple)]
+ANYTHING = SINGLE_THINGS + DEEP_THINGS
+NO_FLOORS = ANYTHING + [unit_floor(list(range(13))), [[True]], [[1, 0], [0, True]], ([1],), [(1,)], [[0, 0], [0, 1]],
+                        [[1, 0]], [[2]]]
+
+
+def no_numbers_between(least, greatest):
+    """Things of all kinds but for the whole numbers from least to greatest."""
+    edges = [least - 2, least - 1, greatest + 1, greatest + 2, -greatest, str(least), str(greatest), (least,),
+             [greatest], [least], [[least]]]
+    return [thing for thing in ANYTHING + edges if type(thing) is not int or not least <= thing <= greatest]
 
 
 def is_same_number(one, other):

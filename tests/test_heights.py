@@ -7,15 +7,6 @@ from bowfloor.heights import floor_by, heights_of, is_heights
 from tests import samples
 
 
-def heights_by_rules(table):
-    """Whether a square table of whole numbers is heights, by what point 6 says of rim and neighbours."""
-    n = len(table) - 1
-    rim = all(table[k][0] == 0 and table[0][k] == 0 and table[k][n] == k and table[n][k] == k for k in range(n + 1))
-    level = all(row[j + 1] - row[j] in (0, 1) for row in table for j in range(n))
-    upright = all(table[i + 1][j] - table[i][j] in (0, 1) for i in range(n) for j in range(n + 1))
-    return rim and level and upright
-
-
 GOOD_HEIGHTS = [samples.heights_by_words(floor) for floor in samples.GOOD_FLOORS]
 BROKEN = {n: [samples.heights_by_words(floor) for floor in samples.BROKEN[n]] for n in samples.SIZES}
 
@@ -30,7 +21,7 @@ class IsHeightsTest(unittest.TestCase):
         for n in samples.SIZES:
             for bent in samples.bent_numbers(BROKEN[n][0]):
                 plain = all(type(number) is int for row in bent for number in row)
-                expected = plain and heights_by_rules(bent)
+                expected = plain and samples.heights_by_rules(bent)
                 self.assertIs(expected, is_heights(bent))
                 seen[expected] += 1
         self.assertTrue(seen[True] and seen[False])

@@ -15,6 +15,10 @@ KeyError IndexError LookupError ZeroDivisionError ArithmeticError OverflowError 
 AttributeError StopIteration NotImplemented""".split())
 METHODS = set("""__init__ __eq__ __repr__ __str__ __len__ __enter__ __exit__ __call__ __iter__ __lt__ __le__ __gt__
 __ge__ __ne__ __contains__ __getitem__ __setitem__ __bool__""".split())
+VALUE_METHODS = set("""add append clear copy count discard endswith extend find get index insert isalnum isalpha isdigit
+islower isspace isupper items join keys ljust lower lstrip partition pop remove replace reverse rfind rjust rpartition
+rsplit rstrip setdefault split splitlines startswith strip update upper values zfill bit_length""".split())
+PASSING = set("zip enumerate reversed range items keys values".split())
 BARRED_WORDS = re.compile(
     r"\b(type|typing|typing_extensions|enum|Enum|IntEnum|StrEnum|Flag|IntFlag|Generic|Protocol|ABC|ABCMeta|namedtuple"
     r"|NamedTuple|TypedDict|TYPE_CHECKING|abstractmethod)\b|dataclass|overload|contextmanager")
@@ -85,6 +89,34 @@ class LanguageTest(unittest.TestCase):
                 self.assertNotIn(name, BARRED_NAMES, where)
                 if not isinstance(node, ast.Attribute) and name not in METHODS:
                     self.assertFalse(hasattr(builtins, name), where)
+
+    def test_names_of_imports_mean_nothing_else(self):
+        for path, source in SOURCES.items():
+            names = list(bound_names(ast.parse(source)))
+            imported = {name for name, node in names if isinstance(node, ast.ImportFrom)}
+            for name, node in names:
+                if not isinstance(node, (ast.ImportFrom, ast.Attribute)):
+                    self.assertNotIn(name, imported, f"{path.name}:{node.lineno}")
+
+    def test_no_two_files_import_from_each_other(self):
+        ahead = {path.stem: {node.module.split(".")[1] for node in ast.walk(ast.parse(source))
+                             if isinstance(node, ast.ImportFrom)} for path, source in SOURCES.items()}
+        while ahead:
+            free = [name for name, needed in ahead.items() if not needed & set(ahead)]
+            self.assertTrue(free, ahead)
+            for name in free:
+                del ahead[name]
+
+    def test_methods_of_builtin_values(self):
+        for where, node in self.each_node(ast.Call):
+            if isinstance(node.func, ast.Attribute) and not isinstance(node.func.value, ast.Call):
+                self.assertIn(node.func.attr, VALUE_METHODS, where)
+
+    def test_passing_values_are_iterated_on_the_spot(self):
+        for where, node in self.each_node(ast.Assign, ast.Return):
+            if isinstance(node.value, ast.Call):
+                called = getattr(node.value.func, "id", getattr(node.value.func, "attr", ""))
+                self.assertNotIn(called, PASSING, where)
 
     def test_builtins(self):
         for where, node in self.each_node(ast.Name):
