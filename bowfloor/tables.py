@@ -1,4 +1,4 @@
-"""Numbers and square tables of numbers, as all other modules check and read them."""
+"""Numbers, and rows, tuples and square tables of them, as all other modules check and read them."""
 
 
 def is_number(thing):
@@ -15,6 +15,11 @@ def is_number_between(thing, least, greatest):
 def is_number_row(thing, length):
     """Whether it is a list of so many whole numbers."""
     return isinstance(thing, list) and len(thing) == length and all(is_number(part) for part in thing)
+
+
+def is_number_tuple(thing, length):
+    """Whether it is a tuple of so many whole numbers."""
+    return isinstance(thing, tuple) and len(thing) == length and all(is_number(part) for part in thing)
 
 
 def is_number_square(thing, least, greatest):

@@ -2,7 +2,7 @@
 
 from bowfloor.errors import NoTurn, OtherSize
 from bowfloor.heights import floor_by, heights_of
-from bowfloor.tables import is_number
+from bowfloor.tables import is_number_tuple
 
 
 def turns_of(floor):
@@ -32,9 +32,7 @@ def turn_at(heights, i, j):
 def can_be_done(heights, thing):
     """Whether it is a turn that can be done with the floor of these heights; of anything."""
     # Python takes True for 1 where it compares, so the kinds are asked first.
-    if not isinstance(thing, tuple) or not all(is_number(part) for part in thing):
-        return False
-    return thing in turns_with(heights)
+    return is_number_tuple(thing, 3) and thing in turns_with(heights)
 
 
 def do_turn(heights, turn):

@@ -33,11 +33,14 @@ def all_stretches(n):
 def colour_of(floor, stretch):
     """The colour of the stretch."""
     kind, i, j = stretch
-    if kind == LEVEL:
-        dark = (i + j + sum(floor[i][:j])) % 2 == 0
-    else:
-        dark = (i + j + sum(row[j] for row in floor[:i])) % 2 == 1
-    return DARK if dark else LIGHT
+    rest = 0 if kind == LEVEL else 1
+    return DARK if (i + j + sum_ahead(floor, stretch)) % 2 == rest else LIGHT
+
+
+def sum_ahead(floor, stretch):
+    """The sum of the row's numbers ahead of a level stretch, of the column's above an upright one."""
+    kind, i, j = stretch
+    return sum(floor[i][:j]) if kind == LEVEL else sum([row[j] for row in floor[:i]])
 
 
 def rim_ends(n, colour):

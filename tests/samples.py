@@ -52,6 +52,40 @@ def floors_by_words(n):
     return sorted([list(row) for row in rows] for rows in tables if floor_by_words(rows))
 
 
+def floors_by_rows(n):
+    """All floors of size n in rising order, row by row, each row such that no column's sum leaves 0 and 1."""
+    lines = sorted(line for line in itertools.product((-1, 0, 1), repeat=n) if line_by_words(line))
+    begun = [([], (0,) * n)]
+    for step in range(n):
+        begun = [(rows + [line], tuple(map(sum, zip(sums, line)))) for rows, sums in begun for line in lines
+                 if all(a + b in (0, 1) for a, b in zip(sums, line))]
+    return [[list(line) for line in rows] for rows, sums in begun]
+
+
+def pattern_by_signs(signs):
+    """The pattern written by ( and ) for each end."""
+    partners, begun = [None] * len(signs), []
+    for end, sign in enumerate(signs):
+        if sign == "(":
+            begun.append(end)
+        else:
+            partners[end] = begun.pop()
+            partners[partners[end]] = end
+    return partners
+
+
+def closes(signs):
+    """Whether the brackets match."""
+    depths = list(itertools.accumulate(1 if sign == "(" else -1 for sign in signs))
+    return min(depths) >= 0 and depths[-1] == 0
+
+
+def patterns_by_words(n):
+    """All patterns of size n in rising order, found by trying all signs."""
+    words = itertools.product("()", repeat=2 * n)
+    return sorted(pattern_by_signs(word) for word in words if closes(word))
+
+
 def pattern_by_words(partners):
     """Whether a list of whole numbers is a pattern of a size from 1 on, read word by word."""
     ends = range(len(partners))

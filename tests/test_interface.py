@@ -15,6 +15,9 @@ MODULES = {
     "turns": "turns_of(floor) floor_after(floor,turn) gap_of(one,other) way_between(one,other) "
              "judge_way(one,other,way)",
     "rounds": "half_round(floor,rest) round_of(floor) round_back(floor) rounds_of(floor,many) round_count(floor)",
+    "held": "keeps(floor,held) held_floors(n,held) nearest_floor(floor,held) free_places(n,held)",
+    "lanes": "is_lanes(thing) lanes_of(floor) floor_by_lanes(lanes) touches_of(floor)",
+    "counts": "pattern_counts(n) floors_with(pattern) pressed_counts(n) judge_counts(n,counts)",
 }
 
 

@@ -12,28 +12,6 @@ TURNS = (0, 1, -1, 2, 5, 23, 24, 25, -24, -25, 1000, 10 ** 29, -10 ** 29, 10 ** 
          123456789012345678901234567890, -123456789012345678901234567890)
 
 
-def pattern_by_signs(signs):
-    """The pattern written by ( and ) for each end."""
-    partners, begun = [None] * len(signs), []
-    for end, sign in enumerate(signs):
-        if sign == "(":
-            begun.append(end)
-        else:
-            partners[end] = begun.pop()
-            partners[partners[end]] = end
-    return partners
-
-
-def closes(signs):
-    depths = list(itertools.accumulate(1 if sign == "(" else -1 for sign in signs))
-    return min(depths) >= 0 and depths[-1] == 0
-
-
-def patterns_by_signs(n):
-    words = itertools.product("()", repeat=2 * n)
-    return sorted(pattern_by_signs(word) for word in words if closes(word))
-
-
 def some_pattern(n, seed):
     """A pattern of size n whose signs are drawn one by one."""
     signs, state = "", seed * 7919 + n
@@ -42,14 +20,14 @@ def some_pattern(n, seed):
         depth = signs.count("(") - signs.count(")")
         left = 2 * n - end
         signs += "(" if depth == 0 or depth < left and (state >> 16) % 2 else ")"
-    return pattern_by_signs(signs)
+    return samples.pattern_by_signs(signs)
 
 
 SOME = {n: [some_pattern(n, seed) for seed in range(12)] for n in samples.SIZES}
 FEW = [pattern for patterns in SOME.values() for pattern in patterns[:3]]
 RAINBOWS = [list(range(2 * n))[::-1] for n in samples.SIZES]
 ROWS_OF_SHORT = [[end ^ 1 for end in range(2 * n)] for n in samples.SIZES]
-GOOD = FEW + RAINBOWS + ROWS_OF_SHORT + [pattern for n in (1, 2, 3, 4) for pattern in patterns_by_signs(n)]
+GOOD = FEW + RAINBOWS + ROWS_OF_SHORT + [pattern for n in (1, 2, 3, 4) for pattern in samples.patterns_by_words(n)]
 THIRTEEN = [list(range(26))[::-1], [end ^ 1 for end in range(26)]]
 
 
@@ -145,7 +123,7 @@ class AllPatternsTest(samples.Promises, unittest.TestCase):
     def test_all_of_them_in_rising_order(self):
         for n in range(1, 7):
             patterns = all_patterns(n)
-            self.assertEqual(patterns_by_signs(n), patterns)
+            self.assertEqual(samples.patterns_by_words(n), patterns)
             self.assertTrue(all(ahead < after for ahead, after in zip(patterns, patterns[1:])))
             self.assertTrue(all(is_pattern(pattern) for pattern in patterns))
 
