@@ -33,11 +33,16 @@ def round_back(floor):
     return half_round(half_round(floor, 1), 0)
 
 
+def refuse_no_rounds(thing):
+    """Raise TooMany if it is no number of rounds."""
+    if not is_number_between(thing, 0, MOST_ROUNDS):
+        raise TooMany(f"the rounds are no whole number from 0 to {MOST_ROUNDS}")
+
+
 def rounds_of(floor, many):
     """The list of the floor and so many more, each the round of the one ahead."""
     refuse_no_floor(floor)
-    if not is_number_between(many, 0, MOST_ROUNDS):
-        raise TooMany(f"the rounds are no whole number from 0 to {MOST_ROUNDS}")
+    refuse_no_rounds(many)
     floors = [[list(row) for row in floor]]
     for count in range(many):
         floors.append(round_of(floors[-1]))

@@ -1,4 +1,4 @@
-"""The names and arguments that the document's interface lists, as far as they have been built."""
+"""The names and arguments that the document's interface lists."""
 
 import importlib
 import inspect
@@ -18,10 +18,20 @@ MODULES = {
     "held": "keeps(floor,held) held_floors(n,held) nearest_floor(floor,held) free_places(n,held)",
     "lanes": "is_lanes(thing) lanes_of(floor) floor_by_lanes(lanes) touches_of(floor)",
     "counts": "pattern_counts(n) floors_with(pattern) pressed_counts(n) judge_counts(n,counts)",
+    "evens": "even_words(floor) even_counts(n)",
+    "pushes": "pushed_floor(floor,pushes) ends_met(n,pushes)",
+    "texts": "shown_floor(floor) shown_pattern(pattern) read_floor(text) read_pattern(text)",
 }
 
 
 class InterfaceTest(unittest.TestCase):
+    def test_the_desk(self):
+        desk = importlib.import_module("bowfloor.desk").Desk
+        self.assertEqual((object,), desk.__bases__)
+        self.assertIn("tell", vars(desk))
+        self.assertEqual([], list(inspect.signature(desk).parameters))
+        self.assertEqual(["self", "line"], list(inspect.signature(desk.tell).parameters))
+
     def test_each_function_is_there_with_its_arguments(self):
         for module, listed in MODULES.items():
             found = importlib.import_module(f"bowfloor.{module}")

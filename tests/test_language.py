@@ -8,6 +8,7 @@ import unittest
 
 PACKAGE = pathlib.Path(__file__).resolve().parent.parent / "bowfloor"
 SOURCES = {path: path.read_text(encoding="utf-8") for path in sorted(PACKAGE.glob("*.py"))}
+TREES = {path: ast.parse(source) for path, source in SOURCES.items()}
 
 BUILTINS = set("""len range enumerate zip min max sum abs sorted reversed int str bool bytes list tuple dict set
 frozenset isinstance ord repr any all divmod super property staticmethod classmethod Exception ValueError TypeError
@@ -107,10 +108,24 @@ class LanguageTest(unittest.TestCase):
             for name in free:
                 del ahead[name]
 
-    def test_methods_of_builtin_values(self):
+    def test_methods_of_builtin_values_and_own_ones(self):
+        own = {part.name for where, node in self.each_node(ast.ClassDef) for part in node.body
+               if isinstance(part, ast.FunctionDef)}
+        attributes = {node.attr for where, node in self.each_node(ast.Attribute) if isinstance(node.ctx, ast.Store)}
+        self.assertFalse(own & (VALUE_METHODS | attributes))
+        self.assertFalse(attributes & VALUE_METHODS)
         for where, node in self.each_node(ast.Call):
-            if isinstance(node.func, ast.Attribute) and not isinstance(node.func.value, ast.Call):
-                self.assertIn(node.func.attr, VALUE_METHODS, where)
+            if isinstance(node.func, ast.Attribute):
+                self.assertIn(node.func.attr, VALUE_METHODS | own, where)
+
+    def test_attributes_are_assigned_in_a_class(self):
+        assigned = {node.attr for where, node in self.each_node(ast.Attribute) if isinstance(node.ctx, ast.Store)}
+        called = {id(node.func) for path, source in SOURCES.items() for node in ast.walk(TREES[path])
+                  if isinstance(node, ast.Call)}
+        for path, tree in TREES.items():
+            for node in ast.walk(tree):
+                if isinstance(node, ast.Attribute) and id(node) not in called:
+                    self.assertIn(node.attr, assigned, f"{path.name}:{node.lineno}")
 
     def test_passing_values_are_iterated_on_the_spot(self):
         for where, node in self.each_node(ast.Assign, ast.Return):
