@@ -1,3 +1,4 @@
+import itertools
 import random
 import unittest
 
@@ -96,7 +97,8 @@ class NewDeskTest(DeskPromises, unittest.TestCase):
                 ("turn 1 1 -1", "turn 1", "0+0/+00/00+"), ("turn 2 2 -1", "turn 1", "+00/00+/0+0"),
                 ("push 1 1 -1", "push", "0+0/+00/00+"), ("push 1 1 1", "stays", PLAIN), ("push 1 2 1", "stays", PLAIN),
                 ("push 12 12 -1", "stays", PLAIN), ("push 3 3 1", "stays", PLAIN), ("round 0", "()(())", PLAIN),
-                ("round 1", "(())()", "00+/0+0/+00"), ("round -1", "((()))", "0+0/+-+/0+0"), ("round 3", "()(())", PLAIN),
+                ("round 1", "(())()", "00+/0+0/+00"), ("round -1", "((()))", "0+0/+-+/0+0"),
+                ("round 3", "()(())", PLAIN),
                 ("round 60", "()(())", PLAIN), ("round -60", "()(())", PLAIN), ("mirror", "(())()", "00+/0+0/+00"),
                 ("cross", "()(())", PLAIN), ("quarter", "(())()", "00+/0+0/+00"), ("hold 1 1 0 1", "hold 4", PLAIN),
                 ("hold 1 1 1 1", "hold 1", PLAIN), ("hold 0 3 0 0", "hold 4", PLAIN), ("free", "free 0", PLAIN),
@@ -218,8 +220,8 @@ class ToldLinesTest(DeskPromises, unittest.TestCase):
                               ("gap", str(gap_of(floor, near))), ("near", "near 0"), ("free", "free 4"))
 
     def test_what_is_held_stays_behind_other_lines(self):
-        desk = desk_with("hold 1 1 0 0", "turn 1 1 -1", "turn 1 1 1", "mirror", "round 1", "push 1 1 1", "home", "quarter",
-                         "cross", "back", "near", "hold 2 2 1 2")
+        desk = desk_with("hold 1 1 0 0", "turn 1 1 -1", "turn 1 1 1", "mirror", "round 1", "push 1 1 1", "home",
+                         "quarter", "cross", "back", "near", "hold 2 2 1 2")
         self.assertEqual("free 2", desk.tell("free"))
 
     def test_home_and_back(self):
@@ -247,8 +249,8 @@ class UndoTest(DeskPromises, unittest.TestCase):
         lines = ("floor 0+00/00+0/+-0+/0+00", "round 1", "hold 2 2 0 1")
         before = seen_of(desk_with(*lines))
         turn = " ".join(map(str, turns_of(samples.drawn_floor(before[0]))[0]))
-        for line in ("size 4", "size 3", "floor +", f"turn {turn}", f"push {turn}", "round 1", "round -7", "mirror", "cross",
-                     "quarter", "hold 0 0 0 0", "hold 2 2 0 1", "free", "home", "back"):
+        for line in ("size 4", "size 3", "floor +", f"turn {turn}", f"push {turn}", "round 1", "round -7", "mirror",
+                     "cross", "quarter", "hold 0 0 0 0", "hold 2 2 0 1", "free", "home", "back"):
             desk = desk_with(*lines)
             desk.tell(line)
             self.assertEqual(4, lines_left(desk), line)
@@ -363,9 +365,9 @@ class NoLineTest(DeskPromises, unittest.TestCase):
             self.assert_no_line(line)
 
     def test_numbers_that_are_none(self):
-        wrong = ("00", "01", "007", "-0", "-01", "-00", "+1", "+0", "--1", "1-", "-", "+", "1.0", "1.", ".5", "1e1", "0x1",
-                 "1_0", "1,0", "one", "x", "N", "1000000", "-1000000", "0000001", "1234567", "9" * 30, "9" * 2000, "1\n",
-                 "\n1", "True", "None", "1/1", "(1)", "\u0661", "\u00b2", "\uff11", "1\t", "-\n1", "1a")
+        wrong = ("00", "01", "007", "-0", "-01", "-00", "+1", "+0", "--1", "1-", "-", "+", "1.0", "1.", ".5", "1e1",
+                 "0x1", "1_0", "1,0", "one", "x", "N", "1000000", "-1000000", "0000001", "1234567", "9" * 30,
+                 "9" * 2000, "1\n", "\n1", "True", "None", "1/1", "(1)", "\u0661", "\u00b2", "\uff11", "1\t", "-\n1", "1a")
         for word, many in WITH_NUMBERS.items():
             for at in range(many):
                 for number in wrong:
@@ -401,7 +403,7 @@ class RefusalsTest(DeskPromises, unittest.TestCase):
             floor = samples.drawn_floor(desk.tell("show"))
             n = len(floor)
             can = turns_of(floor)
-            for i, j, by in [(i, j, by) for i in (-1, 0, 1, 2, n) for j in (1, 2, 3, n, 999999) for by in (-1, 0, 1, 2)]:
+            for i, j, by in itertools.product((-1, 0, 1, 2, n), (1, 2, 3, n, 999999), (-1, 0, 1, 2)):
                 if (i, j, by) not in can:
                     self.assert_line_refused(NoTurn, desk, f"turn {i} {j} {by}")
 
@@ -413,7 +415,8 @@ class RefusalsTest(DeskPromises, unittest.TestCase):
 
     def test_no_text(self):
         for desk in self.each_desk():
-            for word in ("x", "0", "-", "1", "++", "+/", "/+", "/", "+0/0+/", "/+0/0+", "+0//0+", "+0/0", "+0/+0", "+00/0+0",
+            for word in ("x", "0", "-", "1", "++", "+/", "/+", "/", "+0/0+/", "/+0/0+", "+0//0+", "+0/0", "+0/+0",
+                         "+00/0+0",
                          "+0\n0+", "+\n", "\n+", "+0/0+\n", "0-0/-+-/0-0", "10/01", "+0,0+", "plain", "()",
                          written(samples.unit_floor(list(range(13)))), "+" * 1990, "/" * 1990):
                 self.assert_line_refused(NoText, desk, "floor " + word)

@@ -10,7 +10,8 @@ ALL = {n: samples.floors_by_words(n) for n in (1, 2, 3, 4)}
 FLOORS = [floor for floors in ALL.values() for floor in floors] + samples.HOOPED
 FLOORS += [floor for n in samples.SIZES for floor in samples.BROKEN[n]]
 FLOORS += [samples.unit_floor(list(range(n))) for n in samples.SIZES]
-FLOORS += [samples.unit_floor(list(range(n))[::-1]) for n in samples.SIZES] + [samples.diamond_floor(n) for n in (5, 11)]
+FLOORS += [samples.unit_floor(list(range(n))[::-1]) for n in samples.SIZES]
+FLOORS += [samples.diamond_floor(n) for n in (5, 11)]
 SOME = ALL[3] + ALL[4][::6] + [samples.BROKEN[n][0] for n in (2, 5, 7, 12)] + [samples.diamond_floor(7)]
 
 
@@ -303,7 +304,8 @@ class TouchesTest(unittest.TestCase):
     def test_the_crossings_of_two_lanes(self):
         for floor in FLOORS:
             lanes = lanes_of(floor)
-            expected = {crossing for one, other in itertools.combinations(lanes, 2) for crossing in set(one) & set(other)}
+            pairs = itertools.combinations(lanes, 2)
+            expected = {crossing for one, other in pairs for crossing in set(one) & set(other)}
             told = touches_of(floor)
             self.assertEqual(sorted(expected), told)
             self.assertLessEqual({type(crossing) for crossing in told}, {tuple})

@@ -171,7 +171,8 @@ def no_pushes():
     for thing in samples.ANYTHING:
         if thing != []:
             yield thing
-    yield from (good, (good,), (), [[good]], ([good],), {good: 1}, "(1, 1, 1)", [(good,)], [(good, good)], [good, [good]])
+    yield from (good, (good,), (), [[good]], ([good],), {good: 1}, "(1, 1, 1)", [(good,)], [(good, good)],
+                [good, [good]])
     for part in no_parts():
         yield [part]
         yield [good, part]

@@ -7,7 +7,8 @@ from tests import samples
 
 FLOORS = samples.GOOD_FLOORS + [samples.SHARED_FLOOR]
 PATTERNS = [pattern for n in (1, 2, 3, 4, 5) for pattern in samples.patterns_by_words(n)]
-PATTERNS += [list(range(2 * n))[::-1] for n in samples.SIZES] + [[end ^ 1 for end in range(2 * n)] for n in samples.SIZES]
+PATTERNS += [list(range(2 * n))[::-1] for n in samples.SIZES]
+PATTERNS += [[end ^ 1 for end in range(2 * n)] for n in samples.SIZES]
 PATTERNS += [samples.pattern_by_signs(signs) for signs in (
     "(()())((()))()()", "()((((()()))))(()())", "(((())))(()(()))((()()))", "((((((((((()))))))))))()")]
 # Every sign that a text may have, and some that it may not.
@@ -96,7 +97,8 @@ class ReadFloorTest(samples.Promises, unittest.TestCase):
         """It reads the text just where it writes a floor."""
         lines = text.split("\n")
         square = 1 <= len(lines) <= 12 and all(len(line) == len(lines) for line in lines)
-        if square and set(text) <= set("+0-\n") and samples.floor_by_words([samples.drawn_floor(line)[0] for line in lines]):
+        signs = set(text) <= set("+0-\n")
+        if square and signs and samples.floor_by_words([samples.drawn_floor(line)[0] for line in lines]):
             self.assertEqual(text, floor_text(read_floor(text)))
             return True
         self.assert_refused(NoText, read_floor, text)
@@ -108,9 +110,11 @@ class ReadFloorTest(samples.Promises, unittest.TestCase):
                 self.assertFalse(self.assert_read_by_words(bent))
 
     def test_written_out(self):
-        for text in ("", "\n", "+\n", "\n+", " +", "+ ", "0", "-", "1", "++", "+0\n0+\n", "\n+0\n0+", "+0\n\n0+", "+0 0+",
+        for text in ("", "\n", "+\n", "\n+", " +", "+ ", "0", "-", "1", "++", "+0\n0+\n", "\n+0\n0+", "+0\n\n0+",
+                     "+0 0+",
                      "+0/0+", "+0\r\n0+", "+0\n0", "+0\n0+0", "+0\n+0", "0+\n+0 ", "+00\n0+0", "+0\n0+\n00", "o+\n+o",
-                     "+", "+0\n0+", "+-+\n0+0\n0+0", "0+0\n+-+\n0+0", "10\n01", "[[1]]", "()", "+0,0+", "0-0\n-+-\n0-0"):
+                     "+", "+0\n0+", "+-+\n0+0\n0+0", "0+0\n+-+\n0+0", "10\n01", "[[1]]", "()", "+0,0+",
+                     "0-0\n-+-\n0-0"):
             self.assert_read_by_words(text)
 
     def test_sizes(self):
@@ -156,7 +160,8 @@ class ReadPatternTest(samples.Promises, unittest.TestCase):
                 texts += [text + "(", text + ")"]
 
     def test_written_out(self):
-        for text in ("", ")(", "(", ")", "(()", "())", "()\n", "\n()", " ()", "() ", "( )", "()\n()", "[]", "<>", "{}", "(]",
+        for text in ("", ")(", "(", ")", "(()", "())", "()\n", "\n()", " ()", "() ", "( )", "()\n()", "[]", "<>", "{}",
+                     "(]",
                      "(x)", "()x()", "())(", ")()(", "10", "1 0", "[1, 0]", "+", "(.)", "()/()", "(())\n\n()"):
             self.assert_refused(NoText, read_pattern, text)
 
@@ -167,7 +172,8 @@ class ReadPatternTest(samples.Promises, unittest.TestCase):
         self.assertEqual(list(range(24))[::-1], read_pattern("(" * 12 + ")" * 12))
 
     def test_other_kinds(self):
-        for thing in samples.ANYTHING + PATTERNS[:20] + [["()"], ("()",), ["(", ")"], ("(", ")"), [["("], [")"]], [1, 0]]:
+        wrong = [["()"], ("()",), ["(", ")"], ("(", ")"), [["("], [")"]], [1, 0]]
+        for thing in samples.ANYTHING + PATTERNS[:20] + wrong:
             self.assert_refused(NoText, read_pattern, thing)
 
 

@@ -11,7 +11,7 @@ from tests.test_interface import MODULES
 FLOOR = samples.BROKEN[4][0]
 PATTERN = [5, 2, 1, 4, 3, 0, 7, 6]
 
-# For each kind of argument: a good one of the size of FLOOR, what is due where it is none, and which of ANYTHING are good.
+# For each kind of argument: a good one that fits FLOOR, what is due where it is none, and which of ANYTHING are good.
 KINDS = {
     "floor": (FLOOR, "NoFloor", ()),
     "heights": (samples.heights_by_words(FLOOR), "NoHeights", ()),
@@ -37,10 +37,12 @@ FUNCTIONS = [
     (floors.mirrored_floor, ["floor"]), (floors.crossed_floor, ["floor"]), (floors.quartered_floor, ["floor"]),
     (floors.all_floors, ["size to 5"]), (heights.is_heights, ["anything"]), (heights.heights_of, ["floor"]),
     (heights.floor_by, ["heights"]), (ways.stretches_of, ["floor", "colour"]), (ways.rim_ends, ["size", "colour"]),
-    (ways.bows_of, ["floor", "colour"]), (ways.way_of, ["floor", "colour", "end"]), (ways.hoops_of, ["floor", "colour"]),
+    (ways.bows_of, ["floor", "colour"]), (ways.way_of, ["floor", "colour", "end"]),
+    (ways.hoops_of, ["floor", "colour"]),
     (patterns.is_pattern, ["anything"]), (patterns.all_patterns, ["size to 6"]),
     (patterns.pattern_turned, ["pattern", "number"]), (patterns.pattern_mirrored, ["pattern"]),
-    (patterns.short_bows, ["pattern"]), (patterns.bows_over, ["pattern"]), (patterns.pattern_pressed, ["pattern", "end"]),
+    (patterns.short_bows, ["pattern"]), (patterns.bows_over, ["pattern"]),
+    (patterns.pattern_pressed, ["pattern", "end"]),
     (turns.turns_of, ["floor"]), (turns.floor_after, ["floor", "turn"]), (turns.gap_of, ["floor", "floor"]),
     (turns.way_between, ["floor", "floor"]), (turns.judge_way, ["floor", "floor", "anything"]),
     (rounds.half_round, ["floor", "rest"]), (rounds.round_of, ["floor"]), (rounds.round_back, ["floor"]),
